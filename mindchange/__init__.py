@@ -1,0 +1,1 @@
+"""Mindchange: what is held, how firmly, and how it turns."""
