@@ -18,6 +18,13 @@ METHODS = set("""append clear copy count endswith extend find get index insert i
     rstrip setdefault split splitlines startswith strip update upper values zfill bit_length""".split())
 UNDERSCORED = set("__init__ __eq__ __repr__ __str__ __len__".split())
 UNUSED = set("""register mro elements open input version_info with_traceback add_note format format_map""".split())
+UNUSED_NAMES = set("""attrgetter breakpoint builtins compile copyright credits delattr dir eval exec exit gc getattr
+    globals hasattr help id importlib license locals methodcaller os quit setattr super sys vars""".split())
+KEYWORDS = {"sorted": {"key", "reverse"}, "min": {"key", "default"}, "max": {"key", "default"}, "sum": {"start"},
+            "enumerate": {"start"}, "zip": {"strict"}}
+WALKED = {"zip", "enumerate", "reversed", "range"}
+WALKING = {"list", "tuple", "dict", "sorted", "sum", "any", "all", "enumerate", "zip", "min", "max"}
+READING = {"len", "list", "tuple", "dict", "sorted", "sum", "any", "all", "min", "max", "enumerate", "zip", "reversed"}
 UNWRITTEN = re.compile(r"""\b(type|typing|typing_extensions|enum|Enum|IntEnum|StrEnum|Flag|IntFlag|Generic|Protocol
     |ABC|ABCMeta|namedtuple|NamedTuple|TypedDict|TYPE_CHECKING|abstractmethod)\b
     |dataclass|overload|contextmanager""", re.VERBOSE)
@@ -86,7 +93,7 @@ def statement_fault(node):
 
 
 def name_fault(name, bound):
-    if name in UNUSED:
+    if name in UNUSED or bound and name in UNUSED_NAMES:
         return "L17"
     if name.startswith("_") and name not in UNDERSCORED or not name.isascii():
         return "L12"
@@ -130,6 +137,77 @@ def name_faults(tree, methods):
                 yield "L25", line
 
 
+def called(node):
+    """The name by which something is called, the empty text where it has none."""
+    return node.func.id if isinstance(node, ast.Call) and isinstance(node.func, ast.Name) else ""
+
+
+def is_walked_at_once(node):
+    """Whether a call tells something that is only to be walked on the spot."""
+    if not isinstance(node, ast.Call):
+        return False
+    views = isinstance(node.func, ast.Attribute) and node.func.attr in ("items", "keys", "values")
+    return called(node) in WALKED or views
+
+
+def walking_places(tree):
+    """The nodes that stand where they are walked on the spot."""
+    for node in ast.walk(tree):
+        if isinstance(node, (ast.For, ast.comprehension)):
+            yield node.iter
+        elif called(node) in WALKING:
+            yield from node.args if called(node) == "zip" else node.args[:1]
+        elif isinstance(node, ast.Call) and isinstance(node.func, ast.Attribute) and node.func.attr == "join":
+            yield from node.args
+
+
+def call_faults(tree):
+    places = list(walking_places(tree))
+    for node in ast.walk(tree):
+        if is_walked_at_once(node) and not any(node is place for place in places):
+            yield "L23", node.lineno
+        if called(node) in OWN_CALLS | ERRORS:
+            if {part.arg for part in node.keywords} - KEYWORDS.get(called(node), set()):
+                yield "L22", node.lineno
+        if called(node) in ("frozenset", "set") or isinstance(node, ast.Set):
+            yield "L24", node.lineno
+
+
+def kept_at_top(tree):
+    """The lists and dicts of a file's top."""
+    return {ast.unparse(node.targets[0]) for node in tree.body
+            if isinstance(node, ast.Assign) and isinstance(node.value, (ast.List, ast.Dict))}
+
+
+def read_only(parents, node):
+    """Whether a list or dict of a file's top is only read where it stands."""
+    parent = parents[node]
+    if isinstance(parent, ast.Subscript):
+        return node is parent.value and isinstance(parent.ctx, ast.Load)
+    if isinstance(parent, ast.Attribute):
+        return parent.attr in ("get", "items", "keys", "values", "count", "index", "copy")
+    if isinstance(parent, ast.Call):
+        return called(parent) in READING
+    return isinstance(parent, (ast.Compare, ast.For, ast.comprehension))
+
+
+def binding_faults(tree):
+    """Locals that take a name of the file's top, and changes to what the top keeps."""
+    tops = {node.name for node in tree.body if isinstance(node, (ast.ClassDef, ast.FunctionDef))}
+    tops |= {part.asname or part.name for node in drawn_from(tree) for part in node.names}
+    kept = kept_at_top(tree)
+    parents = {part: node for node in ast.walk(tree) for part in ast.iter_child_nodes(node)}
+    for function in ast.walk(tree):
+        if not isinstance(function, (ast.FunctionDef, ast.Lambda)):
+            continue
+        for node in ast.walk(function):
+            stored = isinstance(node, ast.Name) and isinstance(node.ctx, ast.Store)
+            if stored and node.id in tops | kept or isinstance(node, ast.arg) and node.arg in tops | kept:
+                yield "L15", node.lineno
+            elif isinstance(node, ast.Name) and node.id in kept and not read_only(parents, node):
+                yield "L15", node.lineno
+
+
 def text_faults(text):
     for number, line in enumerate(text.split("\n"), start=1):
         if len(line) > 120 or number > 401:
@@ -144,6 +222,7 @@ def faults(text, methods=frozenset()):
     """The faults of one file's text, as pairs of a rule and a line."""
     tree = ast.parse(text)
     found = list(text_faults(text)) + list(top_faults(tree)) + list(name_faults(tree, methods))
+    found += list(call_faults(tree)) + list(binding_faults(tree))
     found += [(node_fault(node), getattr(node, "lineno", 1)) for node in ast.walk(tree)]
     for node in ast.walk(tree):
         if isinstance(node, ast.Expr) and not isinstance(node.value, ast.Call) and node is not tree.body[0]:
@@ -214,18 +293,38 @@ class TheCheckItself(unittest.TestCase):
             "L2": "from os import path\n", "L3": "print(1)\n", "L4": "def f(*xs):\n    return xs\n",
             "L5": "class A:\n    x = 1\n", "L6": "def f():\n    assert 1\n", "L7": "def f(x):\n    return x / 2\n",
             "L8": "def f(x):\n    return hash(x)\n", "L10": "X = 1" + " " * 120 + "\n",
-            "L12": "def _f():\n    pass\n", "L14": "X = 1\t\n", "L15": "def f(id):\n    return id\n",
+            "L12": "def _f():\n    pass\n", "L14": "X = 1\t\n", "L15": "def f(hash):\n    return hash\n",
             "L17": "# a type\n", "L19": "def f():\n    try:\n        pass\n    except Exception:\n        pass\n",
             "L20": "def f(x, y):\n    return x is y\n", "L25": "def f(x):\n    return x.title()\n",
             "L27": "def f(n):\n    return 2 ** n\n",
         }
         for rule, text in wrong.items():
-            with self.subTest(rule):
-                told = "/".join(fault[0] for fault in faults(text))
-                self.assertIn(rule, told.split("/"))
+            self.is_told(rule, text)
+
+    def is_told(self, rule, text):
+        with self.subTest(rule, text=text):
+            told = "/".join(fault[0] for fault in faults(text))
+            self.assertIn(rule, told.split("/"))
+
+    def test_it_tells_calls_and_names(self):
+        for rule, text in (
+                ("L15", "from mindchange.errors import Always\n\n\ndef f(Always):\n    return 1\n"),
+                ("L15", "def g():\n    pass\n\n\ndef f():\n    g = 1\n    return g\n"),
+                ("L15", "XS = [1]\n\n\ndef f():\n    return XS\n"),
+                ("L15", "XS = [1]\n\n\ndef f():\n    XS.append(2)\n"),
+                ("L15", "XS = {1: 2}\n\n\ndef f():\n    XS[1] = 3\n"),
+                ("L17", "def f(os):\n    return os\n"),
+                ("L22", "def f(xs):\n    return max(xs, start=1)\n"),
+                ("L22", "def f(x):\n    return int(x, base=2)\n"),
+                ("L23", "def f(xs):\n    return range(xs)\n"),
+                ("L23", "def f(d):\n    xs = d.items()\n    return xs\n"),
+                ("L24", "def f(xs):\n    return set(xs)\n")):
+            self.is_told(rule, text)
 
     def test_it_passes_plain_text(self):
         self.assertEqual(faults('"""Words."""\n\nX = (1, "a")\n\n\ndef f(x):\n    return [k + 1 for k in x]\n'), [])
+        self.assertEqual(faults("XS = {1: 2}\n\n\ndef f(x):\n    return XS[x] if x in XS else dict(XS)\n"), [])
+        self.assertEqual(faults("def f(d):\n    return [k for k, x in d.items()] + list(range(3))\n"), [])
 
 
 if __name__ == "__main__":

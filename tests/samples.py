@@ -1,0 +1,120 @@
+"""What several tests draw on: sentences of all kinds, and another way than
+the program's to tell their values."""
+
+import itertools
+import random
+
+A = ("name", "a")
+B = ("name", "b")
+C = ("name", "c")
+YES = ("yes",)
+NO = ("no",)
+EIGHT = ("p", "q", "r", "s", "t", "u", "v", "w")
+# the values of each kind of two parts at 00, 01, 10 and 11, by hand
+VALUES = {"and": (0, 0, 0, 1), "or": (0, 1, 1, 1), "then": (1, 1, 0, 1), "same": (1, 0, 0, 1)}
+BETWEEN = tuple(VALUES)
+
+
+def nots(count, tree):
+    for _ in range(count):
+        tree = ("not", tree)
+    return tree
+
+
+def row(kind, trees):
+    """Sentences joined from the left."""
+    whole = trees[0]
+    for tree in trees[1:]:
+        whole = (kind, whole, tree)
+    return whole
+
+
+def row_from_right(kind, trees):
+    whole = trees[-1]
+    for tree in reversed(trees[:-1]):
+        whole = (kind, tree, whole)
+    return whole
+
+
+def small_trees(leaves, depth):
+    """All sentences over the leaves of at most a depth."""
+    trees = list(leaves)
+    for _ in range(depth - 1):
+        trees = list(leaves) + [("not", tree) for tree in trees] + [
+            (kind, left, right) for kind in BETWEEN for left in trees for right in trees]
+    return trees
+
+
+def random_tree(chance, names, depth):
+    if depth == 1 or chance.random() < 0.15:
+        if chance.random() < 0.1:
+            return chance.choice((YES, NO))
+        return ("name", chance.choice(names))
+    if chance.random() < 0.2:
+        return ("not", random_tree(chance, names, depth - 1))
+    return (chance.choice(BETWEEN), random_tree(chance, names, depth - 1), random_tree(chance, names, depth - 1))
+
+
+def random_trees(seed, names, depth, count):
+    chance = random.Random(seed)
+    return [random_tree(chance, names, depth) for _ in range(count)]
+
+
+def big_tree(seed, names):
+    """A sentence of close to 2000 parts."""
+    chance = random.Random(seed)
+    layer = [("name", chance.choice(names)) for _ in range(990)]
+    while len(layer) > 1:
+        layer = [(chance.choice(BETWEEN), *layer[k:k + 2]) if k + 1 < len(layer) else layer[k]
+                 for k in range(0, len(layer), 2)]
+    return layer[0]
+
+
+def value_by_hand(tree, of_names):
+    """A sentence's value with each of its names known, by the table above."""
+    if tree[0] == "name":
+        return of_names[tree[1]]
+    if tree[0] in ("yes", "no"):
+        return 1 if tree[0] == "yes" else 0
+    if tree[0] == "not":
+        return 1 - value_by_hand(tree[1], of_names)
+    return VALUES[tree[0]][2 * value_by_hand(tree[1], of_names) + value_by_hand(tree[2], of_names)]
+
+
+def standing(names, world):
+    """How the names stand in a world, as the document says it."""
+    return {name: world // 2 ** place % 2 for place, name in enumerate(names)}
+
+
+def keepers(names, tree):
+    """The worlds that keep a sentence, asked one by one."""
+    return [world for world in range(2 ** len(names)) if value_by_hand(tree, standing(names, world)) == 1]
+
+
+def breakers(names, tree):
+    return [world for world in range(2 ** len(names)) if value_by_hand(tree, standing(names, world)) == 0]
+
+
+def seen_by_hand(tree, known):
+    """Point 7, word by word."""
+    if tree[0] == "name":
+        return known.get(tree[1])
+    if tree[0] in ("yes", "no"):
+        return 1 if tree[0] == "yes" else 0
+    left = seen_by_hand(tree[1], known)
+    if tree[0] == "not":
+        return None if left is None else 1 - left
+    right = seen_by_hand(tree[2], known)
+    if tree[0] == "then":
+        left = None if left is None else 1 - left
+    if tree[0] == "same":
+        return None if left is None or right is None else int(left == right)
+    strong = 0 if tree[0] == "and" else 1
+    if strong in (left, right):
+        return strong
+    return None if left is None or right is None else 1 - strong
+
+
+def tuples_of_names(names):
+    """The tuples of one up to all of the names, and each order of some of them."""
+    return [names[:count] for count in range(1, len(names) + 1)] + list(itertools.permutations(names[:3]))
