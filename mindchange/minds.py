@@ -21,14 +21,28 @@ def held(mind, tree):
     return firm is None or firm > 0
 
 
-def leaning(mind, tree):
+def both_leasts(mind, tree):
+    # the least rank of the worlds that break the sentence, and of those that keep it
     against = firmness(mind, tree)
     if against is None:
         raise Always("no world breaks the sentence")
     in_favour = least_rank(mind[1], table(mind[0], tree))
     if in_favour is None:
         raise Never("no world keeps the sentence")
-    return against - in_favour
+    return (against, in_favour)
+
+
+def leaning(mind, tree):
+    leasts = both_leasts(mind, tree)
+    return leasts[0] - leasts[1]
+
+
+def greatest_first(ranks):
+    # each rank once
+    found = {}
+    for rank in ranks:
+        found[rank] = True
+    return sorted(found, reverse=True)
 
 
 def less_the_least(marks):

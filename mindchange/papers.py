@@ -1,6 +1,6 @@
 """What is seen with some names known, and what follows from premises."""
 
-from mindchange.tables import bit_at, breaking, full, sides, sides_of_names, table
+from mindchange.tables import bit_at, breaking, full, last_world, sides, sides_of_names, table
 from mindchange.trees import names_in
 
 # The sides of a name that is known as 0, known as 1, or not known.
@@ -61,5 +61,5 @@ def follows(names, premises, tree):
     # the sentence comes behind the premises, as their names are looked at first
     against &= breaking(names, tree)
     if against != 0:
-        return ("no", against.bit_length() - 1)
+        return ("no", last_world(against))
     return ("yes", paper_of(names, premises, tree))

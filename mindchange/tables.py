@@ -8,6 +8,14 @@ def bit_at(number, place):
     return (number >> place) & 1
 
 
+def worlds_in(worlds):
+    return [world for world in range(worlds.bit_length()) if bit_at(worlds, world) == 1]
+
+
+def last_world(worlds):
+    return worlds.bit_length() - 1
+
+
 def need_names(names, tree):
     for name in names_in(tree):
         if name not in names:

@@ -1,18 +1,35 @@
 """What several tests draw on: sentences of all kinds, and another way than
 the program's to tell their values."""
 
+import functools
 import itertools
 import random
+
+from mindchange.errors import MindError
 
 A = ("name", "a")
 B = ("name", "b")
 C = ("name", "c")
 YES = ("yes",)
 NO = ("no",)
+TWO = ("a", "b")
 EIGHT = ("p", "q", "r", "s", "t", "u", "v", "w")
 # the values of each kind of two parts at 00, 01, 10 and 11, by hand
 VALUES = {"and": (0, 0, 0, 1), "or": (0, 1, 1, 1), "then": (1, 1, 0, 1), "same": (1, 0, 0, 1)}
 BETWEEN = tuple(VALUES)
+BIG = 10 ** 30
+# of the names a and b
+ALWAYS = (YES, ("or", A, ("not", A)), ("then", A, A), ("same", B, B), ("not", NO), ("then", NO, A))
+NEVER = (NO, ("and", A, ("not", A)), ("same", A, ("not", A)), ("not", YES), ("and", NO, B))
+
+
+def refusal(function, *things):
+    """The very class of a refusal, None where nothing is refused."""
+    try:
+        function(*things)
+    except MindError as error:
+        return type(error)
+    return None
 
 
 def nots(count, tree):
@@ -86,13 +103,18 @@ def standing(names, world):
     return {name: world // 2 ** place % 2 for place, name in enumerate(names)}
 
 
+@functools.cache
+def values_by_hand(names, tree):
+    """A sentence's value in each world, asked one by one."""
+    return tuple(value_by_hand(tree, standing(names, world)) for world in range(2 ** len(names)))
+
+
 def keepers(names, tree):
-    """The worlds that keep a sentence, asked one by one."""
-    return [world for world in range(2 ** len(names)) if value_by_hand(tree, standing(names, world)) == 1]
+    return [world for world, told in enumerate(values_by_hand(names, tree)) if told == 1]
 
 
 def breakers(names, tree):
-    return [world for world in range(2 ** len(names)) if value_by_hand(tree, standing(names, world)) == 0]
+    return [world for world, told in enumerate(values_by_hand(names, tree)) if told == 0]
 
 
 def seen_by_hand(tree, known):
@@ -118,3 +140,44 @@ def seen_by_hand(tree, known):
 def tuples_of_names(names):
     """The tuples of one up to all of the names, and each order of some of them."""
     return [names[:count] for count in range(1, len(names) + 1)] + list(itertools.permutations(names[:3]))
+
+
+def random_mind(seed, names):
+    chance = random.Random(seed)
+    ranks = [chance.choice((0, 1, 2, 7, BIG, BIG + 1, chance.randrange(50))) for _ in range(2 ** len(names))]
+    ranks[chance.randrange(len(ranks))] = 0
+    return (names, tuple(ranks))
+
+
+def sure_mind(seed, names):
+    """A mind with one world of rank 0, so that each sentence or its "not" is held."""
+    chance = random.Random(seed)
+    ranks = [chance.choice((1, 2, 7, BIG, chance.randrange(1, 50))) for _ in range(2 ** len(names))]
+    ranks[chance.randrange(len(ranks))] = 0
+    return (names, tuple(ranks))
+
+
+def random_told(seed, names, count, ranks=(1, 2, 3, 10, BIG)):
+    chance = random.Random(seed)
+    return [(tree, chance.choice(ranks)) for tree in random_trees(seed, names, 4, count)]
+
+
+def least(mind, worlds):
+    """The least rank of worlds, None where there are none."""
+    return min((mind[1][world] for world in worlds), default=None)
+
+
+def mind_by_hand(names, told):
+    marks = [0] * 2 ** len(names)
+    for tree, rank in told:
+        for world in breakers(names, tree):
+            marks[world] = max(marks[world], rank)
+    return (names, tuple(mark - min(marks) for mark in marks))
+
+
+def left_by_hand(names, trees, tree):
+    """The worlds that keep all of the trees and break the tree."""
+    left = set(breakers(names, tree))
+    for other in trees:
+        left &= set(keepers(names, other))
+    return left

@@ -2,41 +2,17 @@
 
 import copy
 import itertools
-import random
 import unittest
 
-from mindchange.errors import Always, MindError, Never, NoName
+from mindchange.errors import Always, Never, NoName
 from mindchange.minds import firmness, flat, held, leaning, mind_of
 from tests.samples import (
-    A, B, BETWEEN, C, EIGHT, NO, YES, big_tree, breakers, keepers, nots, random_trees, row, small_trees,
+    A, ALWAYS, B, BETWEEN, BIG, C, EIGHT, NEVER, NO, TWO, YES, big_tree, breakers, keepers, least, mind_by_hand, nots,
+    random_mind, random_told, random_trees, refusal, row, small_trees,
 )
 
-BIG = 10 ** 30
-TWO = ("a", "b")
 # none, a, b, both
 MIND = (TWO, (3, 0, 5, 1))
-ALWAYS = (YES, ("or", A, ("not", A)), ("then", A, A), ("same", B, B), ("not", NO), ("then", NO, A))
-NEVER = (NO, ("and", A, ("not", A)), ("same", A, ("not", A)), ("not", YES), ("and", NO, B))
-
-
-def refusal(function, *things):
-    """The very class of a refusal, None where nothing is refused."""
-    try:
-        function(*things)
-    except MindError as error:
-        return type(error)
-    return None
-
-
-def random_mind(seed, names):
-    chance = random.Random(seed)
-    ranks = [chance.choice((0, 1, 2, 7, BIG, BIG + 1, chance.randrange(50))) for _ in range(2 ** len(names))]
-    ranks[chance.randrange(len(ranks))] = 0
-    return (names, tuple(ranks))
-
-
-def least(mind, worlds):
-    return min((mind[1][world] for world in worlds), default=None)
 
 
 class Flat(unittest.TestCase):
@@ -174,14 +150,6 @@ class Leaning(unittest.TestCase):
             self.assertIs(refusal(leaning, MIND, tree), NoName)
 
 
-def mind_by_hand(names, told):
-    marks = [0] * 2 ** len(names)
-    for tree, rank in told:
-        for world in breakers(names, tree):
-            marks[world] = max(marks[world], rank)
-    return (names, tuple(mark - min(marks) for mark in marks))
-
-
 class MindOf(unittest.TestCase):
     def tells(self, names, told, mind):
         before = copy.deepcopy(told)
@@ -231,9 +199,7 @@ class MindOf(unittest.TestCase):
         for count in range(1, 9):
             names = EIGHT[:count]
             for seed in range(8):
-                chance = random.Random(100 * count + seed)
-                trees = random_trees(100 * count + seed, names, 4, seed + 1)
-                told = [(tree, chance.choice((1, 2, 3, 10, BIG))) for tree in trees]
+                told = random_told(100 * count + seed, names, seed + 1)
                 self.tells(names, told, mind_by_hand(names, told))
 
     def test_three_hundred_told_sentences(self):

@@ -2,11 +2,11 @@
 
 import unittest
 
-from mindchange.errors import MindError, NoName
+from mindchange.errors import NoName
 from mindchange.tables import full, table, value
 from tests.samples import (
-    A, B, BETWEEN, C, EIGHT, NO, VALUES, YES, big_tree, keepers, nots, random_trees, row, small_trees, standing,
-    tuples_of_names, value_by_hand,
+    A, B, BETWEEN, C, EIGHT, NO, VALUES, YES, big_tree, keepers, nots, random_trees, refusal, row, small_trees,
+    standing, tuples_of_names, value_by_hand,
 )
 
 LACKING = (
@@ -14,15 +14,6 @@ LACKING = (
     ("same", B, B), ("or", B, ("not", B)), ("then", B, B), ("and", A, B), ("same", A, ("or", A, ("and", NO, B))),
     ("name", "aa"), ("name", "name"), nots(39, B), row("or", [YES] * 39 + [B]), row("or", [B] + [YES] * 39),
 )
-
-
-def refusal(function, *things):
-    """The very class of a refusal, None where nothing is refused."""
-    try:
-        function(*things)
-    except MindError as error:
-        return type(error)
-    return None
 
 
 class Values(unittest.TestCase):
