@@ -181,3 +181,22 @@ def left_by_hand(names, trees, tree):
     for other in trees:
         left &= set(keepers(names, other))
     return left
+
+
+def turned_by_hand(mind, tree, lean):
+    """Point 14, word by word."""
+    names, ranks = mind
+    told = list(ranks)
+    for worlds, more in ((keepers(names, tree), max(-lean, 0)), (breakers(names, tree), max(lean, 0))):
+        for world in worlds:
+            told[world] = ranks[world] - least(mind, worlds) + more
+    return (names, tuple(told))
+
+
+def poured_by_hand(pairs):
+    """Point 18, word by word."""
+    names = pairs[0][0][0]
+    sums = []
+    for world in range(2 ** len(names)):
+        sums.append(sum(weight * mind[1][world] for mind, weight in pairs))
+    return (names, tuple(each - min(sums) for each in sums))

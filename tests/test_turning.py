@@ -10,7 +10,7 @@ from mindchange.minds import firmness, flat, held, leaning
 from mindchange.turning import given_up, lost, taken_on, turned
 from tests.samples import (
     A, ALWAYS, B, BIG, C, EIGHT, NEVER, NO, TWO, YES, big_tree, breakers, keepers, least, nots, random_mind,
-    random_trees, refusal, row_from_right, small_trees, sure_mind,
+    random_trees, refusal, row_from_right, small_trees, sure_mind, turned_by_hand,
 )
 
 # none, a, b, both
@@ -22,16 +22,6 @@ LACKING = (
     C, ("not", C), ("or", C, YES), ("or", YES, C), ("or", C, ("not", C)), ("and", C, NO), ("and", NO, C),
     ("then", C, C), ("and", A, C), nots(39, C),
 )
-
-
-def turned_by_hand(mind, tree, lean):
-    """Point 14, word by word."""
-    names, ranks = mind
-    told = list(ranks)
-    for worlds, more in ((keepers(names, tree), max(-lean, 0)), (breakers(names, tree), max(lean, 0))):
-        for world in worlds:
-            told[world] = ranks[world] - least(mind, worlds) + more
-    return (names, tuple(told))
 
 
 def sentences(seed, names, count):
